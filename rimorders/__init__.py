@@ -1,0 +1,1 @@
+"""Rimorders: in which order marks stand round a rim."""

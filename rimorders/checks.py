@@ -1,0 +1,37 @@
+"""What arguments have to be: questions, and checks that raise the errors."""
+
+from math import gcd
+
+from rimorders.errors import InvalidNumber, InvalidStep
+
+
+def is_integer(given):
+    """Whether it is an int other than True and False."""
+    return isinstance(given, int) and not isinstance(given, bool)
+
+
+def is_fraction(given):
+    """Whether it is a pair (top, bottom) in lowest terms, the bottom from 1 on."""
+    if not isinstance(given, tuple) or len(given) != 2:
+        return False
+    top, bottom = given
+    if not is_integer(top) or not is_integer(bottom):
+        return False
+    return bottom >= 1 and gcd(top, bottom) == 1
+
+
+def is_step(given):
+    """Whether it is a fraction from 0 on, below 1."""
+    return is_fraction(given) and 0 <= given[0] < given[1]
+
+
+def check_step(given):
+    """Raises InvalidStep if it is no step."""
+    if not is_step(given):
+        raise InvalidStep(given)
+
+
+def check_number(given, least, most):
+    """Raises InvalidNumber if it is no integer from the least one to the most."""
+    if not is_integer(given) or given < least or given > most:
+        raise InvalidNumber(given)

@@ -1,0 +1,8 @@
+"""The bounds of what may be passed."""
+
+MOST_COUNT = 10 ** 30
+MOST_MARK = 40
+MOST_PART = 60
+MOST_SIGHTINGS = 20
+MOST_LISTED = 12
+MOST_COUNTED = 2000

@@ -1,0 +1,99 @@
+"""Those rules of the language of the program that are easily asked of its files."""
+
+import ast
+import builtins
+import unittest
+from pathlib import Path
+
+PACKAGE = Path(__file__).resolve().parent.parent / "rimorders"
+
+LIBRARY = {
+    "heapq": {"heappush", "heappop", "heapify", "heapreplace", "heappushpop"},
+    "math": {"gcd", "lcm", "isqrt", "comb", "perm", "factorial"},
+    "itertools": {"product", "combinations", "permutations"},
+}
+ALLOWED_BUILTINS = set(
+    "len range enumerate zip min max sum abs sorted reversed int str bool bytes list tuple dict set isinstance ord "
+    "repr any all divmod map iter next property staticmethod classmethod super Exception ValueError TypeError KeyError "
+    "IndexError LookupError ZeroDivisionError ArithmeticError OverflowError RuntimeError NotImplementedError "
+    "AttributeError StopIteration NotImplemented object".split()
+)
+BARRED_NODES = (ast.Global, ast.AsyncFunctionDef, ast.Await, ast.Div, ast.MatMult, ast.NamedExpr)
+
+
+def files():
+    return sorted(PACKAGE.rglob("*.py"))
+
+
+def trees():
+    return [(path, ast.parse(path.read_text(encoding="ascii"))) for path in files()]
+
+
+class Files(unittest.TestCase):
+
+    def test_nothing_else_in_the_folder(self):
+        found = [path for path in PACKAGE.rglob("*") if "__pycache__" not in path.parts]
+        self.assertEqual([path.name for path in found if path.suffix != ".py"], [])
+
+    def test_characters_and_sizes(self):
+        for path in files():
+            text = path.read_text(encoding="ascii")
+            with self.subTest(path.name):
+                self.assertEqual([sign for sign in text if sign != "\n" and not " " <= sign <= "~"], [])
+                self.assertLessEqual(len(text.splitlines()), 399)
+                self.assertLessEqual(max([len(line) for line in text.splitlines()]), 120)
+
+    def test_sizes_of_functions(self):
+        for path, tree in trees():
+            for node in ast.walk(tree):
+                if isinstance(node, ast.FunctionDef):
+                    with self.subTest(path=path.name, name=node.name):
+                        self.assertLessEqual(node.end_lineno - node.lineno + 1, 40)
+
+
+class Code(unittest.TestCase):
+
+    def test_imports(self):
+        needed = {}
+        for path, tree in trees():
+            needed[path.stem] = []
+            for node in ast.walk(tree):
+                self.assertNotIsInstance(node, ast.Import, path.name)
+                if not isinstance(node, ast.ImportFrom):
+                    continue
+                self.assertIn(node, tree.body, path.name)
+                self.assertEqual(node.level, 0, path.name)
+                names = {name.name for name in node.names}
+                if node.module in LIBRARY:
+                    self.assertLessEqual(names, LIBRARY[node.module], path.name)
+                else:
+                    self.assertTrue(node.module.startswith("rimorders."), path.name)
+                    needed[path.stem].append(node.module.partition(".")[2])
+        while needed:
+            free = [name for name in needed if not any(other in needed for other in needed[name])]
+            self.assertNotEqual(free, [], "files import from each other")
+            for name in free:
+                del needed[name]
+
+    def test_builtins(self):
+        for path, tree in trees():
+            for node in ast.walk(tree):
+                name = node.id if isinstance(node, ast.Name) else node.arg if isinstance(node, ast.arg) else None
+                if name is not None and hasattr(builtins, name):
+                    with self.subTest(path=path.name, line=node.lineno):
+                        self.assertIn(name, ALLOWED_BUILTINS)
+                        self.assertIsInstance(getattr(node, "ctx", None), ast.Load)
+
+    def test_statements_and_values(self):
+        for path, tree in trees():
+            for node in ast.walk(tree):
+                with self.subTest(path=path.name, line=getattr(node, "lineno", 0)):
+                    self.assertNotIsInstance(node, BARRED_NODES)
+                    if isinstance(node, ast.Constant):
+                        self.assertNotIsInstance(node.value, (float, complex))
+                        if isinstance(node.value, str):
+                            self.assertNotIn("%", node.value)
+
+
+if __name__ == "__main__":
+    unittest.main()
