@@ -1,0 +1,31 @@
+"""What an integer, a fraction and a step are, by [3] and [6]."""
+
+import unittest
+
+from rimorders.checks import is_fraction, is_integer, is_step
+
+
+class Kinds(unittest.TestCase):
+
+    def test_integers(self):
+        for value in (0, 1, -1, 10 ** 60):
+            self.assertIs(is_integer(value), True)
+        for value in (True, False, None, "1", (1,), [1]):
+            self.assertIs(is_integer(value), False)
+
+    def test_fractions(self):
+        for value in ((0, 1), (1, 1), (3, 8), (8, 3), (-3, 8), (-1, 1), (5, 1)):
+            self.assertIs(is_fraction(value), True)
+        for value in ((3, -8), (-3, -8), (0, -1), (0, 0), (1, 0), (-1, 0), (0, 2), (2, 4), (-2, 4), (True, 2), (1, True),
+                      [3, 8], (3,), (3, 8, 1), None):
+            self.assertIs(is_fraction(value), False)
+
+    def test_steps(self):
+        for value in ((0, 1), (1, 2), (10 ** 60 - 2, 10 ** 60 - 1)):
+            self.assertIs(is_step(value), True)
+        for value in ((1, 1), (8, 3), (-3, 8), (5, 1), (2, 4), [3, 8]):
+            self.assertIs(is_step(value), False)
+
+
+if __name__ == "__main__":
+    unittest.main()
