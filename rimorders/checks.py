@@ -25,6 +25,21 @@ def is_step(given):
     return is_fraction(given) and 0 <= given[0] < given[1]
 
 
+def is_part(given):
+    """Whether it is a fraction from 0 to 1, these included."""
+    return is_fraction(given) and 0 <= given[0] <= given[1]
+
+
+def is_less(one, other):
+    """Whether a fraction is less than another one."""
+    return one[0] * other[1] < other[0] * one[1]
+
+
+def is_number(given, least, most):
+    """Whether it is an integer from the least one to the most."""
+    return is_integer(given) and least <= given <= most
+
+
 def check_step(given):
     """Raises InvalidStep if it is no step."""
     if not is_step(given):
@@ -33,5 +48,5 @@ def check_step(given):
 
 def check_number(given, least, most):
     """Raises InvalidNumber if it is no integer from the least one to the most."""
-    if not is_integer(given) or given < least or given > most:
+    if not is_number(given, least, most):
         raise InvalidNumber(given)

@@ -2,7 +2,7 @@
 
 from math import gcd
 
-from rimorders.checks import check_number, check_step
+from rimorders.checks import check_number, check_step, is_less
 from rimorders.limits import MOST_COUNT
 
 # An order is listed mark by mark, so it is asked for few marks only.
@@ -14,7 +14,7 @@ def place(step, mark):
     check_step(step)
     check_number(mark, 0, MOST_COUNT)
     top, bottom = step
-    return _lowest(top * mark % bottom, bottom)
+    return lowest(top * mark % bottom, bottom)
 
 
 def order(step, count):
@@ -56,31 +56,56 @@ def between(one, other):
     return _simplest_between(one, other)
 
 
-def _lowest(top, bottom):
+def lowest(top, bottom):
+    """The fraction in lowest terms."""
     shared = gcd(top, bottom)
     return top // shared, bottom // shared
 
 
-def _simplest_between(one, other):
-    if one[0] * other[1] <= other[0] * one[1]:
-        return _simplest(one, other)
-    return _simplest(other, one)
+def mediant(low, high):
+    """A fraction that lies strictly between two unlike ones."""
+    return lowest(low[0] + high[0], low[1] + high[1])
 
 
-def _simplest(low, high):
-    """The fraction with the least bottom from low to high, both included."""
-    low_top, low_bottom = low
-    high_top, high_bottom = high
+def simplest_in(low, high, first, last):
+    """The fraction with the least bottom from low to high; first and last tell which of these belong."""
     wholes = []
+    top = _least_whole(low, first)
     # While no integer lies in the stretch, all of it has the same whole part;
     # less this part and turned over, its simplest fraction remains the simplest one.
-    while low_top % low_bottom and low_top // low_bottom == high_top // high_bottom:
-        whole = low_top // low_bottom
+    while not _is_within(top, high, last):
+        whole = low[0] // low[1]
         wholes.append(whole)
-        low_rest, high_rest = low_top - whole * low_bottom, high_top - whole * high_bottom
-        low_top, low_bottom, high_top, high_bottom = high_bottom, high_rest, low_bottom, low_rest
-    # The least integer from low on, as the tops grow with it.
-    top, bottom = -(-low_top // low_bottom), 1
+        low, high = _turned(high, whole), _turned(low, whole)
+        first, last = last, first
+        top = _least_whole(low, first)
+    # It is the least integer of this stretch, as the tops grow with it.
+    bottom = 1
     for whole in reversed(wholes):
         top, bottom = whole * top + bottom, top
     return top, bottom
+
+
+def _simplest_between(one, other):
+    if is_less(other, one):
+        return simplest_in(other, one, True, True)
+    return simplest_in(one, other, True, True)
+
+
+def _least_whole(low, first):
+    """The least integer that is greater than low, or equal to it if it belongs."""
+    top, bottom = low
+    if first:
+        return -(-top // bottom)
+    return top // bottom + 1
+
+
+def _is_within(whole, high, last):
+    top, bottom = high
+    return whole * bottom < top or last and whole * bottom == top
+
+
+def _turned(fraction, whole):
+    """Less the whole part and turned over; a bottom of 0 then stands for what is endless."""
+    top, bottom = fraction
+    return bottom, top - whole * bottom

@@ -16,26 +16,82 @@ FUNCTIONS = {
         "parting": ["one", "other"],
         "between": ["one", "other"],
     },
+    "ranks": {
+        "next_mark": ["step", "count", "mark"],
+        "last_mark": ["step", "count", "mark"],
+        "rank": ["step", "count", "mark"],
+        "mark_of": ["step", "count", "rank"],
+        "how_many": ["step", "count", "low", "high"],
+        "first_within": ["step", "low", "high"],
+    },
+    "lots": {
+        "has": ["lot", "step"],
+        "inside": ["lot", "mate"],
+        "both": ["lot", "mate"],
+        "either": ["lot", "mate"],
+        "others": ["lot"],
+        "simplest": ["lot"],
+    },
+    "sightings": {
+        "lot_of": ["sighting"],
+        "lot_of_all": ["sightings"],
+        "is_right": ["sighting", "step"],
+        "striking": ["sightings"],
+    },
+    "orders": {
+        "steps_of": ["row"],
+        "steps_of_some": ["row"],
+        "how_many_orders": ["count"],
+        "all_orders": ["count"],
+        "broken_at": ["row"],
+    },
+}
+
+# For each class its methods and properties, each with its parameters behind the object or the class.
+CLASSES = {
+    "lots": {
+        "Lot": {
+            "__init__": ["pieces"], "read": ["text"], "pieces": None, "text": None, "width": None, "__str__": [], "__repr__": [],
+            "__eq__": ["other"],
+        },
+    },
 }
 
 
 class Interface(unittest.TestCase):
 
+    def check(self, call, told):
+        parameters = inspect.signature(call).parameters
+        self.assertEqual(list(parameters), told)
+        for parameter in parameters.values():
+            self.assertIs(parameter.default, parameter.empty)
+            self.assertIs(parameter.kind, parameter.POSITIONAL_OR_KEYWORD)
+
     def test_arguments(self):
         for module, functions in FUNCTIONS.items():
             for name, told in functions.items():
                 with self.subTest(module=module, name=name):
-                    parameters = inspect.signature(getattr(importlib.import_module(f"rimorders.{module}"), name)).parameters
-                    self.assertEqual(list(parameters), told)
-                    for parameter in parameters.values():
-                        self.assertIs(parameter.default, parameter.empty)
-                        self.assertIs(parameter.kind, parameter.POSITIONAL_OR_KEYWORD)
+                    self.check(getattr(importlib.import_module(f"rimorders.{module}"), name), told)
+
+    def test_classes(self):
+        for module, classes in CLASSES.items():
+            for name, parts in classes.items():
+                made = getattr(importlib.import_module(f"rimorders.{module}"), name)
+                for part, told in parts.items():
+                    with self.subTest(module=module, name=name, part=part):
+                        self.assertIn(part, vars(made))
+                        if told is None:
+                            self.assertIsInstance(vars(made)[part], property)
+                        elif isinstance(vars(made)[part], classmethod):
+                            self.check(getattr(made, part), told)
+                        else:
+                            self.check(vars(made)[part], ["self", *told])
 
     def test_defined_where_listed(self):
         for module, functions in FUNCTIONS.items():
             tree = ast.parse((PACKAGE / f"{module}.py").read_text(encoding="ascii"))
-            defined = [row.name for row in tree.body if isinstance(row, ast.FunctionDef)]
-            for name in functions:
+            defined = [row.name for row in tree.body if isinstance(row, (ast.FunctionDef, ast.ClassDef))]
+            for name in [*functions, *CLASSES.get(module, [])]:
                 with self.subTest(module=module, name=name):
                     self.assertIn(name, defined)
 

@@ -18,6 +18,7 @@ ALLOWED_BUILTINS = set(
     "IndexError LookupError ZeroDivisionError ArithmeticError OverflowError RuntimeError NotImplementedError "
     "AttributeError StopIteration NotImplemented object".split()
 )
+TAKE_LISTS = "any", "all", "min", "max", "sum", "sorted"
 BARRED_NODES = (ast.Global, ast.AsyncFunctionDef, ast.Await, ast.Div, ast.MatMult, ast.NamedExpr)
 
 
@@ -83,6 +84,35 @@ class Code(unittest.TestCase):
                     with self.subTest(path=path.name, line=node.lineno):
                         self.assertIn(name, ALLOWED_BUILTINS)
                         self.assertIsInstance(getattr(node, "ctx", None), ast.Load)
+
+    def test_lists_where_objects_compare(self):
+        # As lots have an __eq__, these take no generator expressions.
+        for path, tree in trees():
+            for node in ast.walk(tree):
+                if isinstance(node, ast.Call) and getattr(node.func, "id", None) in TAKE_LISTS:
+                    with self.subTest(path=path.name, line=node.lineno):
+                        self.assertEqual([part for part in node.args if isinstance(part, ast.GeneratorExp)], [])
+
+    def test_powers_stars_and_tests_of_being(self):
+        for path, tree in trees():
+            for node in ast.walk(tree):
+                with self.subTest(path=path.name, line=getattr(node, "lineno", 0)):
+                    if isinstance(node, ast.BinOp) and isinstance(node.op, ast.Pow):
+                        self.assertIsInstance(node.right, ast.Constant)
+                        self.assertLessEqual(node.right.value, 64)
+                    if isinstance(node, ast.Subscript):
+                        self.assertEqual([part for part in ast.walk(node.slice) if isinstance(part, ast.Starred)], [])
+                    if isinstance(node, ast.Compare) and isinstance(node.ops[0], (ast.Is, ast.IsNot)):
+                        self.assertIsInstance(node.comparators[0], ast.Constant)
+
+    def test_tables_hold_only_plain_values(self):
+        for path, tree in trees():
+            for node in tree.body:
+                if isinstance(node, ast.Assign):
+                    barred = (ast.Call, ast.Lambda, ast.ListComp, ast.DictComp, ast.GeneratorExp, ast.Set)
+                    self.assertEqual([part for part in ast.walk(node) if isinstance(part, barred)], [], path.name)
+                else:
+                    self.assertIsInstance(node, (ast.Expr, ast.ImportFrom, ast.FunctionDef, ast.ClassDef), path.name)
 
     def test_statements_and_values(self):
         for path, tree in trees():

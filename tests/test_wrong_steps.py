@@ -1,79 +1,13 @@
-"""What is wrong: which error is raised for it, with what is `given`."""
+"""What is wrong for steps: which error is raised for it, with what is `given`."""
 
 import unittest
 
 from rimorders.errors import InvalidNumber, InvalidStep
 from rimorders.steps import between, mirrored, order, parting, place
+from wrong import GREAT, NO_INTEGERS, WRONG_STEPS, Hostile, Wrong
 
-GREAT = 10 ** 30
-
-
-class Hostile:
-    """Answers no question that a check has no need to ask."""
-
-    def refuse(self, *_):
-        raise RuntimeError("asked")
-
-    __eq__ = __lt__ = __le__ = __gt__ = __ge__ = __len__ = __bool__ = __iter__ = __getitem__ = refuse
-    __index__ = __int__ = __repr__ = __hash__ = __contains__ = refuse
-
-
-class LooksLikeATuple:
-
-    def __len__(self):
-        return 2
-
-    def __getitem__(self, at):
-        return (3, 8)[at]
-
-
-def nested(depth):
-    value = ()
-    for _ in range(depth):
-        value = (value, value)
-    return value
-
-
-WRONG_STEPS = [
-    # no pairs
-    None, True, False, 0, 1, 3, "", "3/8", "38", b"38", {3: 8}, {3, 8}, frozenset((3, 8)), object(), int, Hostile(),
-    LooksLikeATuple(), range(2), iter((3, 8)), ValueError("3/8"),
-    # lists in the place of tuples
-    [3, 8], [], [0, 1], ([3, 8],), ([3], 8), (3, [8]), [(3, 8)],
-    # other lengths
-    (), (3,), (8,), (3, 8, 1), (0, 1, 1), (3, 8, 8, 3), ((3, 8),), (0,) * 20,
-    # elements that are no integers
-    (True, 2), (False, 1), (0, True), (False, True), (1, None), (None, 2), ("1", "2"), ("3", 8), (3, "8"), (b"3", 8),
-    ((3, 8), 8), (3, (3, 8)), (object(), 8), (3, object()), (Hostile(), 8), (3, Hostile()), (Hostile(), Hostile()),
-    nested(18), (LooksLikeATuple(), 2), ({}, 2), (1, {2}),
-    # common divisors
-    (2, 4), (0, 2), (0, 3), (3, 9), (10, 25), (2 * 10 ** 29, 10 ** 30), (0, 10 ** 59),
-    # bottoms of 0 or below
-    (0, 0), (1, 0), (-1, 0), (0, -1), (1, -3), (-1, -3), (3, -8), (-3, -8), (-8, -3), (1, -10 ** 59),
-    # tops as great as the bottom, greater, or below 0
-    (1, 1), (2, 1), (8, 3), (9, 8), (3, 2), (-1, 3), (-3, 8), (-1, 1), (-9, 8), (10 ** 59, 10 ** 59 - 1),
-    (-1, 10 ** 59), (2, 2),
-]
-
-NO_INTEGERS = [
-    None, True, False, "", "3", "mark", b"3", (), (3,), [], [3], {}, {3}, {3: 3}, frozenset(), object(), int, Hostile(),
-    LooksLikeATuple(), nested(18),
-]
 WRONG_MARKS = NO_INTEGERS + [-1, -2, -GREAT, GREAT + 1, GREAT + 2, 10 ** 59]
 WRONG_COUNTS = NO_INTEGERS + [0, -1, -60, 61, 62, GREAT, -GREAT]
-
-
-class Wrong(unittest.TestCase):
-
-    def check(self, error, given, call, *args, **named):
-        """It raises just this error, with the very object that was passed."""
-        try:
-            call(*args, **named)
-        except (InvalidNumber, InvalidStep) as raised:
-            self.assertIs(type(raised), error)
-            self.assertIs(raised.given, given)
-        else:
-            self.fail("nothing was raised")
 
 
 class OneWrong(Wrong):
