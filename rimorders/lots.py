@@ -33,8 +33,8 @@ class Lot:
         if not isinstance(text, str):
             raise InvalidText(text)
         pieces = _read_pieces(text)
-        # Each lot has one text, so that needless zeros and the like need no cases of their own.
-        if pieces is None or _first_wrong(pieces) is not None or _text_of(pieces) != text:
+        # A lot has one text only, so that other brackets, needless zeros and the like need no cases of their own.
+        if _first_wrong(pieces) is not None or _text_of(pieces) != text:
             raise InvalidText(text)
         return cls(pieces)
 
@@ -234,20 +234,18 @@ def _digits_of(number):
 
 
 def _read_pieces(text):
-    """The quadruples that a text tells, whatever they are; None if it tells none."""
+    """What a text tells in the place of pieces; whether these are pieces, and have this text, is asked by itself."""
     if text == "none":
         return ()
     pieces = []
     for word in text.split(" "):
         ends = [_read_fraction(part) for part in word[1:-1].split(",")]
-        if len(ends) > 2 or None in ends:
-            return None
         pieces.append((ends[0], ends[-1], word[:1] == "[", word[-1:] == "]"))
     return tuple(pieces)
 
 
 def _read_fraction(text):
-    """The pair that a text tells, whatever it is; None if it tells none."""
+    """The pair that a text tells, None if it tells none."""
     top, _, bottom = text.partition("/")
     if not _are_digits(top) or not _are_digits(bottom):
         return None

@@ -107,9 +107,8 @@ def _beside_zero(step, many):
     while low + high < many:
         times = min(far_low // far_high, (many - 1 - low) // high)
         low, far_low = low + times * high, far_low - times * far_high
-        if low + high < many:
-            times = min(far_high // far_low, (many - 1 - high) // low)
-            high, far_high = high + times * low, far_high - times * far_low
+        times = min(far_high // far_low, (many - 1 - high) // low)
+        high, far_high = high + times * low, far_high - times * far_low
     return low, high
 
 
@@ -152,5 +151,5 @@ def _first_from_to(step, least, most):
 
 
 def _first_from(slope, least):
-    """The least mark that is so far from the mark 0 at least, each one being the slope on from the one before."""
+    """How many slopes together come so far at least."""
     return -(-least // slope)
