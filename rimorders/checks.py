@@ -2,7 +2,7 @@
 
 from math import gcd
 
-from rimorders.errors import InvalidNumber, InvalidStep
+from rimorders.errors import InvalidIndex, InvalidNumber, InvalidStep
 
 
 def is_integer(given):
@@ -50,3 +50,9 @@ def check_number(given, least, most):
     """Raises InvalidNumber if it is no integer from the least one to the most."""
     if not is_number(given, least, most):
         raise InvalidNumber(given)
+
+
+def check_index(given, many):
+    """Raises InvalidIndex if it is no index of one of so many."""
+    if not is_number(given, 0, many - 1):
+        raise InvalidIndex(given)

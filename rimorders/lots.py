@@ -121,6 +121,11 @@ def simplest(lot):
     return top, bottom
 
 
+def without(lot, mate):
+    """The lot of the steps that belong to the first lot and not to the other one."""
+    return both(lot, others(mate))
+
+
 def check_lot(given):
     """Raises NotALot if it is no lot."""
     if not isinstance(given, Lot):

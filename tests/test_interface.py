@@ -45,6 +45,25 @@ FUNCTIONS = {
         "all_orders": ["count"],
         "broken_at": ["row"],
     },
+    "telling": {
+        "judge": ["lot", "sighting"],
+        "shown": ["lot", "sighting"],
+        "orders_in": ["lot", "count"],
+        "sure_next": ["lot", "count", "mark"],
+        "parting_in": ["lot"],
+        "best_offer": ["lot", "offers", "count"],
+    },
+    "scaled": {
+        "thinned": ["lot", "number"],
+        "thinned_from": ["lot", "number"],
+        "mirror": ["lot"],
+    },
+    "doubts": {
+        "lot_with": ["sightings", "most"],
+        "fewest_wrong": ["sightings"],
+        "surely_wrong": ["sightings", "most"],
+        "surely_right": ["sightings", "most"],
+    },
 }
 
 # For each class its methods and properties, each with its parameters behind the object or the class.
@@ -53,6 +72,12 @@ CLASSES = {
         "Lot": {
             "__init__": ["pieces"], "read": ["text"], "pieces": None, "text": None, "width": None, "__str__": [], "__repr__": [],
             "__eq__": ["other"],
+        },
+    },
+    "rims": {
+        "Rim": {
+            "__init__": [], "note": ["sighting"], "forget": ["index"], "undo": [], "sightings": None, "lot": None,
+            "simplest": None, "changes": None, "judge": ["sighting"], "trial": [], "tried": ["action"],
         },
     },
 }
@@ -88,10 +113,10 @@ class Interface(unittest.TestCase):
                             self.check(vars(made)[part], ["self", *told])
 
     def test_defined_where_listed(self):
-        for module, functions in FUNCTIONS.items():
+        for module in [*FUNCTIONS, *CLASSES]:
             tree = ast.parse((PACKAGE / f"{module}.py").read_text(encoding="ascii"))
             defined = [row.name for row in tree.body if isinstance(row, (ast.FunctionDef, ast.ClassDef))]
-            for name in [*functions, *CLASSES.get(module, [])]:
+            for name in [*FUNCTIONS.get(module, []), *CLASSES.get(module, [])]:
                 with self.subTest(module=module, name=name):
                     self.assertIn(name, defined)
 

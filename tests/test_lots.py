@@ -4,28 +4,13 @@ import random
 import unittest
 from fractions import Fraction
 
-from plain import are_pieces, belongs, fractions_to, moved, neighbours, pair, pieces_from, steps_to, with_middles
+from drawn import PLACES, lot_of_choice, random_choice
+from plain import are_pieces, belongs, fractions_to, moved, neighbours, pair, pieces_from, steps_to
 from rimorders.errors import InvalidPieces, NoStep
 from rimorders.lots import Lot, both, either, has, inside, others, simplest
 
 GREAT = 10 ** 30
-PLACES = with_middles(fractions_to(4))
 WHOLE = (((0, 1), (1, 1), True, False),)
-
-
-def random_choice(source):
-    """For each place whether it belongs; long stretches as well as single places."""
-    change = source.choice((1, 2, 5))
-    chosen, here = {}, source.random() < 0.5
-    for where in PLACES:
-        if source.randrange(change) == 0:
-            here = not here if change > 1 else source.random() < 0.5
-        chosen[where] = here
-    return chosen
-
-
-def lot_of_choice(chosen):
-    return Lot(pieces_from(PLACES, lambda where: chosen[where]))
 
 
 class Examples(unittest.TestCase):

@@ -5,6 +5,7 @@ import unittest
 from fractions import Fraction
 from itertools import combinations
 
+from drawn import small_sighting
 from plain import belongs, fractions_to, is_met, pair, pieces_from, with_middles
 from rimorders.lots import Lot
 from rimorders.sightings import lot_of, lot_of_all, striking
@@ -12,17 +13,6 @@ from rimorders.sightings import lot_of, lot_of_all, striking
 # Enough for marks to 5 and arcs with the ends 0, 1/2 and 1.
 PLACES = with_middles(fractions_to(10))
 QUARREL = ("turn", 0, 1, 2), ("turn", 0, 2, 1)
-
-
-def small_sighting(source):
-    word = source.choice(("turn", "turn", "on", "within", "next"))
-    if word == "within":
-        low, high = source.choice((((0, 1), (1, 2)), ((1, 2), (1, 1)), ((0, 1), (1, 1))))
-        return ("within", *source.sample(range(6), 2), low, high)
-    if word == "next":
-        count = source.randrange(2, 7)
-        return ("next", count, *source.sample(range(count), 2))
-    return (word, *source.sample(range(6), 3 if word == "turn" else 2))
 
 
 def places_of(sighting):

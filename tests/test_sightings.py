@@ -4,47 +4,12 @@ import random
 import unittest
 from fractions import Fraction
 
-from plain import are_pieces, fractions_to, is_met, pair, pieces_from, points_of, steps_to, with_middles
+from drawn import changes, random_arc, random_marks, random_sighting
+from plain import are_pieces, fractions_to, is_met, pair, pieces_from, steps_to, with_middles
 from rimorders.lots import Lot, has
 from rimorders.sightings import is_right, lot_of, lot_of_all, striking
 
 GREAT = 10 ** 30
-PARTS = fractions_to(60)
-
-
-def random_marks(source, many, most=40):
-    return source.sample(range(most + 1), many)
-
-
-def random_arc(source):
-    low, high = sorted(source.sample(PARTS, 2))
-    return pair(low), pair(high)
-
-
-def random_sighting(source, most=40):
-    word = source.choice(("turn", "on", "within", "next"))
-    if word == "turn":
-        return ("turn", *random_marks(source, 3, most))
-    if word == "on":
-        return ("on", *random_marks(source, 2, most))
-    if word == "within":
-        return ("within", *random_marks(source, 2, most), *random_arc(source))
-    count = source.randrange(2, most + 2)
-    return ("next", count, *random_marks(source, 2, count - 1))
-
-
-def changes(sighting):
-    """Where it may turn from right to wrong, worked out for each kind by itself."""
-    word, *told = sighting
-    if word == "turn":
-        return points_of({abs(told[at] - told[at - 1]) for at in range(3)})
-    if word == "on":
-        return points_of([abs(told[0] - told[1])])
-    if word == "within":
-        way = told[1] - told[0]
-        ends = {(Fraction(*end) + whole) / way for end in told[2:] for whole in range(-41, 42)}
-        return sorted({end for end in ends if 0 < end < 1} | set(points_of([abs(way)])))
-    return fractions_to(told[0] - 1)
 
 
 class Examples(unittest.TestCase):

@@ -2,7 +2,7 @@
 
 import unittest
 
-from rimorders.errors import NotRight
+from rimorders.errors import NotKnown, NotPossible, NotRight
 from rimorders.lots import Lot
 
 GREAT = 10 ** 30
@@ -115,7 +115,7 @@ class Wrong(unittest.TestCase):
         """It raises just this error, which is returned."""
         try:
             call(*args, **named)
-        except NotRight as raised:
+        except (NotRight, NotKnown, NotPossible) as raised:
             self.assertIs(type(raised), error)
             return raised
         self.fail("nothing was raised")
