@@ -4,6 +4,8 @@ from math import gcd
 
 from rimorders.errors import InvalidIndex, InvalidNumber, InvalidStep
 
+_LONGEST_NAME = 8
+
 
 def is_integer(given):
     """Whether it is an int other than True and False."""
@@ -38,6 +40,13 @@ def is_less(one, other):
 def is_number(given, least, most):
     """Whether it is an integer from the least one to the most."""
     return is_integer(given) and least <= given <= most
+
+
+def is_name(given):
+    """Whether it is a string of one to eight letters from a to z."""
+    if not isinstance(given, str) or len(given) > _LONGEST_NAME:
+        return False
+    return given.isascii() and given.isalpha() and given.islower()
 
 
 def check_step(given):

@@ -38,11 +38,12 @@ class Start:
 
 
 class Trial:
-    """For a with statement: when its rows end, in whatever way, all is as it was when they began."""
+    """For a with statement: when its rows end all is as it was when they began, unless it keeps what ends well."""
 
-    def __init__(self, history, holder):
+    def __init__(self, history, holder, keeps):
         self._history = history
         self._holder = holder
+        self._keeps = keeps
         self._start = None
 
     def __enter__(self):
@@ -51,5 +52,6 @@ class Trial:
         return self._holder
 
     def __exit__(self, kind, value, trace):
-        self._history.now = self._start.moment
+        if kind is not None or not self._keeps:
+            self._history.now = self._start.moment
         self._start = self._start.outer

@@ -150,6 +150,12 @@ def lot_where(points, fits):
     return _lot_with(cuts)
 
 
+def fraction_text(fraction):
+    """A fraction as it stands in the text of a lot."""
+    top, bottom = fraction
+    return f"{_digits_of(top)}/{_digits_of(bottom)}"
+
+
 def _first_wrong(pieces):
     """The index of the first piece that cannot stand where it does, None if there is none."""
     for at, piece in enumerate(pieces):
@@ -219,14 +225,9 @@ def _text_of(pieces):
 def _word_of(piece):
     low, high, first, last = piece
     if low == high:
-        return f"[{_fraction_text(low)}]"
+        return f"[{fraction_text(low)}]"
     opening, closing = "[" if first else "(", "]" if last else ")"
-    return f"{opening}{_fraction_text(low)},{_fraction_text(high)}{closing}"
-
-
-def _fraction_text(fraction):
-    top, bottom = fraction
-    return f"{_digits_of(top)}/{_digits_of(bottom)}"
+    return f"{opening}{fraction_text(low)},{fraction_text(high)}{closing}"
 
 
 def _digits_of(number):

@@ -69,7 +69,7 @@ class Rim:
 
     def trial(self):
         """For a with statement, behind which the rim is as it was."""
-        return Trial(self._history, self)
+        return Trial(self._history, self, False)
 
     def tried(self, action):
         """What an action with the rim returns, behind which the rim is as it was."""

@@ -2,7 +2,7 @@
 
 import unittest
 
-from rimorders.checks import is_fraction, is_integer, is_less, is_number, is_part, is_step
+from rimorders.checks import is_fraction, is_integer, is_less, is_name, is_number, is_part, is_step
 
 
 class Kinds(unittest.TestCase):
@@ -37,6 +37,13 @@ class Kinds(unittest.TestCase):
         for value in (1, 41, -2, None, "3", [3], (3,)):
             self.assertIs(is_number(value, 2, 40), False)
         self.assertIs(is_number(True, 0, 40), False)
+
+    def test_names(self):
+        for value in ("a", "z", "abcdefgh", "zzzzzzzz", "none", "lot"):
+            self.assertIs(is_name(value), True)
+        for value in ("", "abcdefghi", "A", "aB", "a1", "1", "a b", " a", "a_", "a-", "{", "`", "a\n", b"a", None, 0, True,
+                      ("a",), ["a"]):
+            self.assertIs(is_name(value), False)
 
     def test_steps(self):
         for value in ((0, 1), (1, 2), (10 ** 60 - 2, 10 ** 60 - 1)):

@@ -64,6 +64,14 @@ FUNCTIONS = {
         "surely_wrong": ["sightings", "most"],
         "surely_right": ["sightings", "most"],
     },
+    "checker": {
+        "accepts": ["claim", "paper"],
+    },
+    "certificates": {
+        "certify_fit": ["sightings"],
+        "certify_judged": ["sightings", "sighting"],
+        "certify_parting": ["one", "other", "count"],
+    },
 }
 
 # For each class its methods and properties, each with its parameters behind the object or the class.
@@ -79,6 +87,15 @@ CLASSES = {
             "__init__": [], "note": ["sighting"], "forget": ["index"], "undo": [], "sightings": None, "lot": None,
             "simplest": None, "changes": None, "judge": ["sighting"], "trial": [], "tried": ["action"],
         },
+    },
+    "desks": {
+        "Desk": {
+            "__init__": [], "put": ["name", "lot"], "thing": ["name"], "drop": ["name"], "claim": ["claim"], "lift": ["index"],
+            "undo": [], "names": None, "claims": None, "changes": None, "__contains__": ["name"], "trial": [], "tried": ["action"],
+        },
+    },
+    "console": {
+        "Console": {"__init__": [], "desk": None, "run": ["command"]},
     },
 }
 
