@@ -46,8 +46,8 @@ def _read(command):
         rest = [*rest[:1], " ".join(rest[1:])]
     told = [words[many - 1]]
     for kind, word in zip(kinds, rest):
-        read = _READERS[kind]
-        told.append(read(word))
+        reader = _READERS[kind]
+        told.append(reader(word))
     if len(rest) != len(kinds) or any([part is None for part in told]):
         raise InvalidCommand(command)
     return head, tuple(told)

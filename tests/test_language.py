@@ -19,6 +19,12 @@ ALLOWED_BUILTINS = set(
     "AttributeError StopIteration NotImplemented object".split()
 )
 TAKE_LISTS = "any", "all", "min", "max", "sum", "sorted"
+VIEWS = "range", "zip", "enumerate", "reversed"
+# What may take one of these; it goes over it at once.
+TAKE_VIEWS = "list", "tuple", "dict", "sorted", "sum", "min", "max", "any", "all", "enumerate", "zip", "len"
+OWN_METHODS = (
+    "__init__", "__eq__", "__repr__", "__str__", "__len__", "__enter__", "__exit__", "__call__", "__iter__", "__contains__",
+)
 BARRED_NODES = (ast.Global, ast.AsyncFunctionDef, ast.Await, ast.Div, ast.MatMult, ast.NamedExpr)
 
 
@@ -92,6 +98,41 @@ class Code(unittest.TestCase):
                 if isinstance(node, ast.Call) and getattr(node.func, "id", None) in TAKE_LISTS:
                     with self.subTest(path=path.name, line=node.lineno):
                         self.assertEqual([part for part in node.args if isinstance(part, ast.GeneratorExp)], [])
+
+    def test_views_are_gone_over_at_once(self):
+        for path, tree in trees():
+            allowed = set()
+            for node in ast.walk(tree):
+                if isinstance(node, (ast.For, ast.comprehension)):
+                    allowed.add(node.iter)
+                elif isinstance(node, ast.Call) and getattr(node.func, "id", None) in (*TAKE_VIEWS, *VIEWS, "combinations"):
+                    allowed.update(node.args)
+                elif isinstance(node, ast.Compare):
+                    allowed.update(node.comparators)
+            for node in ast.walk(tree):
+                if isinstance(node, ast.Call) and getattr(node.func, "id", None) in VIEWS:
+                    with self.subTest(path=path.name, line=node.lineno):
+                        self.assertIn(node, allowed)
+
+    def test_methods_with_underscores(self):
+        for path, tree in trees():
+            for node in ast.walk(tree):
+                if isinstance(node, ast.FunctionDef) and node.name.startswith("__"):
+                    with self.subTest(path=path.name, name=node.name):
+                        self.assertIn(node.name, OWN_METHODS)
+                        if node.name == "__exit__":
+                            self.assertEqual([part.arg for part in node.args.args], ["self", "kind", "value", "trace"])
+                            barred = (ast.Call, ast.BinOp, ast.Compare, ast.Subscript, ast.For, ast.While, ast.Raise, ast.Try)
+                            asked = [part for part in ast.walk(node) if isinstance(part, ast.Compare)]
+                            self.assertEqual({ast.unparse(part) for part in asked} - {"kind is None", "kind is not None"}, set())
+                            self.assertEqual([part for part in ast.walk(node) if isinstance(part, barred) and part not in asked], [])
+
+    def test_functions_of_tables_are_named_first(self):
+        for path, tree in trees():
+            for node in ast.walk(tree):
+                if isinstance(node, ast.Call):
+                    with self.subTest(path=path.name, line=node.lineno):
+                        self.assertNotIsInstance(node.func, (ast.Subscript, ast.Call, ast.IfExp))
 
     def test_powers_stars_and_tests_of_being(self):
         for path, tree in trees():
