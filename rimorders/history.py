@@ -43,7 +43,8 @@ class Trial:
     def __init__(self, history, holder, keeps):
         self._history = history
         self._holder = holder
-        self._keeps = keeps
+        # None in the place of False: as lots have an __eq__, __exit__ asks of an attribute only whether it is None.
+        self._keeps = keeps or None
         self._start = None
 
     def __enter__(self):
@@ -52,6 +53,6 @@ class Trial:
         return self._holder
 
     def __exit__(self, kind, value, trace):
-        if kind is not None or not self._keeps:
+        if kind is not None or self._keeps is None:
             self._history.now = self._start.moment
         self._start = self._start.outer

@@ -2,6 +2,7 @@
 
 import ast
 import builtins
+import re
 import unittest
 from pathlib import Path
 
@@ -25,6 +26,9 @@ TAKE_VIEWS = "list", "tuple", "dict", "sorted", "sum", "min", "max", "any", "all
 OWN_METHODS = (
     "__init__", "__eq__", "__repr__", "__str__", "__len__", "__enter__", "__exit__", "__call__", "__iter__", "__contains__",
 )
+# As lots have an __eq__, an attribute alone is not asked, nor compared with a literal.
+ASKED_IN_EXIT = r"\A(kind is (not )?None|self(\.\w+)+ is None)\Z"
+ASSIGNED_IN_EXIT = r"self(\.\w+)+ = self(\.\w+)+"
 BARRED_NODES = (ast.Global, ast.AsyncFunctionDef, ast.Await, ast.Div, ast.MatMult, ast.NamedExpr)
 
 
@@ -34,6 +38,37 @@ def files():
 
 def trees():
     return [(path, ast.parse(path.read_text(encoding="ascii"))) for path in files()]
+
+
+def exits():
+    return [(path, node) for path, tree in trees() for node in ast.walk(tree)
+            if isinstance(node, ast.FunctionDef) and node.name == "__exit__"]
+
+
+def rows_in(rows):
+    """These statements and those within their ifs."""
+    found = []
+    for row in rows:
+        found.append(row)
+        if isinstance(row, ast.If):
+            found += rows_in(row.body) + rows_in(row.orelse)
+    return found
+
+
+def is_row_of_exit(row):
+    """Whether it is one of the statements that the exits of this package need; L6 With allows a few more."""
+    if isinstance(row, ast.Assign):
+        return re.fullmatch(ASSIGNED_IN_EXIT, ast.unparse(row)) is not None
+    return isinstance(row, ast.If)
+
+
+def asked_in(test):
+    """What stands between and, or and not."""
+    if isinstance(test, ast.BoolOp):
+        return [part for value in test.values for part in asked_in(value)]
+    if isinstance(test, ast.UnaryOp) and isinstance(test.op, ast.Not):
+        return asked_in(test.operand)
+    return [test]
 
 
 class Files(unittest.TestCase):
@@ -120,12 +155,21 @@ class Code(unittest.TestCase):
                 if isinstance(node, ast.FunctionDef) and node.name.startswith("__"):
                     with self.subTest(path=path.name, name=node.name):
                         self.assertIn(node.name, OWN_METHODS)
-                        if node.name == "__exit__":
-                            self.assertEqual([part.arg for part in node.args.args], ["self", "kind", "value", "trace"])
-                            barred = (ast.Call, ast.BinOp, ast.Compare, ast.Subscript, ast.For, ast.While, ast.Raise, ast.Try)
-                            asked = [part for part in ast.walk(node) if isinstance(part, ast.Compare)]
-                            self.assertEqual({ast.unparse(part) for part in asked} - {"kind is None", "kind is not None"}, set())
-                            self.assertEqual([part for part in ast.walk(node) if isinstance(part, barred) and part not in asked], [])
+
+    def test_rows_of_exits(self):
+        for path, exit_method in exits():
+            with self.subTest(path.name):
+                self.assertEqual([part.arg for part in exit_method.args.args], ["self", "kind", "value", "trace"])
+                for row in rows_in(exit_method.body):
+                    self.assertTrue(is_row_of_exit(row), ast.unparse(row))
+
+    def test_what_exits_ask(self):
+        for path, exit_method in exits():
+            for row in rows_in(exit_method.body):
+                if isinstance(row, ast.If):
+                    for part in asked_in(row.test):
+                        with self.subTest(path=path.name, line=part.lineno):
+                            self.assertRegex(ast.unparse(part), ASKED_IN_EXIT)
 
     def test_functions_of_tables_are_named_first(self):
         for path, tree in trees():
